@@ -1,0 +1,1 @@
+"""Restways: ways told by neighbours, each house with likings of its own."""

@@ -1,0 +1,66 @@
+"""Towns, their ties and their ways."""
+
+from restways.names import is_name
+from restways.plain import is_rising, is_row
+from restways.rules import is_hand, is_liking
+
+MOST_HOUSES = 10
+MOST_RULES = 90
+
+
+def are_houses(thing):
+    """Whether thing may be the houses of a town."""
+    return is_row(thing, 1, MOST_HOUSES) and all([is_name(name) for name in thing]) and is_rising(thing)
+
+
+def is_house(houses, thing):
+    """Whether thing, which may be anything, is one of houses."""
+    return is_name(thing) and thing in houses
+
+
+def is_tie(houses, thing):
+    """Whether thing is a pair of houses, the lesser first."""
+    if not is_row(thing, 2, 2):
+        return False
+    return is_house(houses, thing[0]) and is_house(houses, thing[1]) and thing[0] < thing[1]
+
+
+def are_ties(houses, thing):
+    """Whether thing may be the ties of a town with these houses."""
+    return isinstance(thing, tuple) and all([is_tie(houses, pair) for pair in thing]) and is_rising(thing)
+
+
+def has_rule_rows(houses, thing):
+    """Whether thing has for each house a tuple of at most as many things as a house may have rules."""
+    many = len(houses)
+    return is_row(thing, many, many) and all([is_row(rules, 0, MOST_RULES) for rules in thing])
+
+
+def is_town(thing):
+    """Whether thing, which may be anything, is a town."""
+    if not is_row(thing, 5, 5):
+        return False
+    goal, houses, ties, likings, hands = thing
+    if not are_houses(houses) or not is_house(houses, goal) or not are_ties(houses, ties):
+        return False
+    if not has_rule_rows(houses, likings) or not has_rule_rows(houses, hands):
+        return False
+    if not all([is_liking(rule) for rules in likings for rule in rules]):
+        return False
+    return all([is_hand(rule) for rules in hands for rule in rules])
+
+
+def tied(town, house):
+    """The rising list of the houses that are tied with house."""
+    ties = town[2]
+    return sorted([a for a, b in ties if b == house] + [b for a, b in ties if a == house])
+
+
+def is_way(town, thing):
+    """Whether thing, which may be anything, is a way in a town."""
+    goal, houses = town[:2]
+    if not is_row(thing, 1, len(houses)) or not all([is_house(houses, house) for house in thing]):
+        return False
+    if thing[-1] != goal or not is_rising(sorted(thing)):
+        return False
+    return all([thing[k + 1] in tied(town, thing[k]) for k in range(len(thing) - 1)])

@@ -1,0 +1,123 @@
+"""Towns and odd things for the tests."""
+
+
+def town(goal, houses, ties="", likings=None, hands=None):
+    """A town of houses of one letter each: town("g", "abg", "ag bg", {"a": (..)}, {"b": (..)})."""
+    likings = likings or {}
+    hands = hands or {}
+    return (
+        goal,
+        tuple(houses),
+        tuple(tuple(pair) for pair in ties.split()),
+        tuple(tuple(likings.get(house, ())) for house in houses),
+        tuple(tuple(hands.get(house, ())) for house in houses),
+    )
+
+
+def all_ties(houses):
+    """The ties, as town takes them, of each two of houses."""
+    return " ".join(a + b for at, a in enumerate(houses) for b in houses[at + 1:])
+
+
+def nested(kind, depth):
+    """A list or tuple, so many within one another."""
+    thing = kind(())
+    for _ in range(depth - 1):
+        thing = kind((thing,))
+    return thing
+
+
+def nested_dict(depth):
+    thing = {}
+    for _ in range(depth - 1):
+        thing = {"not": thing}
+    return thing
+
+
+def nested_not(depth):
+    thing = ("by", "a")
+    for _ in range(depth - 1):
+        thing = ("not", thing)
+    return thing
+
+
+class Plain:
+    """An object without anything."""
+
+
+class Alike:
+    """Says that it is like anything, and can be no key."""
+
+    __hash__ = None
+
+    def __eq__(self, other):
+        return True
+
+
+class Sore:
+    """Can't be compared at all."""
+
+    def __eq__(self, other):
+        raise RuntimeError("compared")
+
+    def __lt__(self, other):
+        raise RuntimeError("compared")
+
+    def __hash__(self):
+        raise RuntimeError("hashed")
+
+    def __bool__(self):
+        raise RuntimeError("asked for its truth")
+
+    def __len__(self):
+        raise RuntimeError("asked for its length")
+
+
+def a_generator():
+    yield "a"
+
+
+# None of these is right at any place of a name, cond, liking, hand, town or way.
+NEVER_RIGHT = (
+    True, False, 10 ** 40, -(10 ** 40), 1000, -1000,
+    "", "A", "a1", "a b", "a\n", "a.", "abcdefghi", "never", "\u00e9", "\ud800",
+    b"", b"a", bytearray(b"a"), [], ["a"], ["by", "a"], [[]], {}, {"a": "b"}, {"by", "a"}, set(), frozenset(),
+    range(3), slice(1), object(), Plain(), Plain, Alike(), Alike, Sore(), Sore, len, int, tuple, str, print,
+    lambda: None, a_generator(), iter(()), NotImplemented, Ellipsis, ValueError(), ValueError, memoryview(b"a"),
+    nested(list, 60), nested(tuple, 60), nested_dict(60), nested_not(60), ("by", nested(tuple, 59)),
+    (1,), (None,), ("a", "b", "c", "d", "e", "f"), (Alike(), Alike()), (Sore(), Sore()), ("by", Alike()),
+    ("not", Sore()), (Alike(), "a"), ((), Alike()), ((), Sore()), (Sore(), None),
+)
+
+
+def places(thing, ahead=()):
+    """The places of a thing and of all within it, each a tuple of numbers."""
+    found = [ahead]
+    if isinstance(thing, tuple):
+        for at, part in enumerate(thing):
+            found.extend(places(part, ahead + (at,)))
+    return found
+
+
+def part_at(thing, place):
+    for at in place:
+        thing = thing[at]
+    return thing
+
+
+def put_at(thing, place, part):
+    """Thing with another part at a place."""
+    if not place:
+        return part
+    at = place[0]
+    return thing[:at] + (put_at(thing[at], place[1:], part),) + thing[at + 1:]
+
+
+def spoilt(thing):
+    """What comes of a right thing where one place of it holds an odd thing, or a list in place of a tuple."""
+    for place in places(thing):
+        for odd in NEVER_RIGHT:
+            yield put_at(thing, place, odd)
+        part = part_at(thing, place)
+        if isinstance(part, tuple):
+            yield put_at(thing, place, list(part))
