@@ -82,3 +82,11 @@ def holds(cond, way, marks, to=None):
     if word == "mark":
         return about in marks
     return len(way) - 1 >= about
+
+
+def all_hold(conds, way, marks, to=None):
+    """Whether all conds hold of a way with marks, handed to the house to."""
+    for cond in conds:
+        if not holds(cond, way, marks, to):
+            return False
+    return True

@@ -50,6 +50,16 @@ def is_town(thing):
     return all([is_hand(rule) for rules in hands for rule in rules])
 
 
+def likings_of(town, house):
+    """The likings of a house."""
+    return town[3][town[1].index(house)]
+
+
+def hands_of(town, house):
+    """The hands of a house."""
+    return town[4][town[1].index(house)]
+
+
 def tied(town, house):
     """The rising list of the houses that are tied with house."""
     ties = town[2]

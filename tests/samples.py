@@ -121,3 +121,37 @@ def spoilt(thing):
         part = part_at(thing, place)
         if isinstance(part, tuple):
             yield put_at(thing, place, list(part))
+
+
+def upto(other, ties):
+    """The conds of ways that come from other and have at most so many ties."""
+    return (("from", other), ("not", ("long", ties + 1)))
+
+
+def crowded(more):
+    """A town of seven houses, each with each tied, that lets 326 ways of six and just the likings more of z."""
+    houses = "abcdegz"
+    z_likings = [(conds, 0) for conds in more] + [((), None)]
+    return town("g", houses, all_ties(houses), {"z": z_likings}, {"z": [((), ("keep",))]})
+
+
+# Of the 326 ways of a, b, c, d, e, g, z hears 65 from each house but g, and one from g.
+JUST_400 = crowded([(("from", "a"),), upto("b", 3), upto("c", 2), upto("d", 2), upto("e", 2), (("from", "g"),)])
+JUST_401 = crowded([(("from", "a"),), upto("b", 3), upto("c", 3)])
+
+
+def via(other):
+    """Likings of a house that likes the way by other straight to the goal g, then its own straight one, no more."""
+    return [((("from", other), ("not", ("long", 3))), 2), ((("from", "g"),), 1), ((), None)]
+
+
+# Either of the two would rather go by the other: two rests.
+TWO_RESTS = town("g", "abg", "ab ag bg", {"a": via("b"), "b": via("a")})
+# Each of the three would rather go by the next, round about: no rest.
+NO_REST = town("g", "abcg", "ab ac ag bc bg cg", {"a": via("b"), "b": via("c"), "c": via("a")})
+# Four times two houses that would rather go by one another, and one by itself: ten houses, sixteen rests.
+SIXTEEN_RESTS = town(
+    "g", "abcdefghij", "ab ag bg cd cg dg ef eg fg gh gi gj hi",
+    {"a": via("b"), "b": via("a"), "c": via("d"), "d": via("c"),
+     "e": via("f"), "f": via("e"), "h": via("i"), "i": via("h")},
+)
