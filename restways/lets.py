@@ -52,3 +52,8 @@ def lets(town):
         marked[way[0]].append((way, marks))
     # The goal's own way is let even where its worth is None, and stands alone.
     return {house: [(goal,)] if house == goal else most_liked_first(town, marked[house]) for house in houses}
+
+
+def places_of(ways):
+    """Of what lets told, a dict from each let way to its place among those of its house."""
+    return {way: at for row in ways.values() for at, way in enumerate(row)}

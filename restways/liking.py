@@ -26,3 +26,12 @@ def most_liked_first(town, marked):
     """The ways of a list of (way, marks) of one house, the most liked first."""
     keys = sorted([liking_key(town, way, marks) for way, marks in marked])
     return [key[-1] for key in keys]
+
+
+def most_liked(town, marked):
+    """The most liked one of a list of (way, marks) of one house, (None, ()) of an empty list."""
+    keys = [(liking_key(town, way, marks), marks) for way, marks in marked]
+    if not keys:
+        return (None, ())
+    key, marks = min(keys)
+    return (key[-1], marks)

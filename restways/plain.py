@@ -1,9 +1,14 @@
 """What the other modules ask of things of any kind."""
 
 
+def is_number(thing):
+    """Whether thing is a whole number; a truth is none."""
+    return isinstance(thing, int) and not isinstance(thing, bool)
+
+
 def is_whole(thing, low, high):
-    """Whether thing is a whole number from low to high; a truth is none."""
-    return isinstance(thing, int) and not isinstance(thing, bool) and low <= thing <= high
+    """Whether thing is a whole number from low to high."""
+    return is_number(thing) and low <= thing <= high
 
 
 def is_row(thing, fewest, most):

@@ -1,6 +1,6 @@
 """Choices, what is offered by them, and the rests of a town."""
 
-from restways.lets import lets, marks_of
+from restways.lets import lets, marks_of, places_of
 from restways.liking import most_liked_first
 from restways.towns import is_way, tied
 
@@ -29,7 +29,7 @@ def is_rest(town, choice):
 
 def links_of(ways):
     """For each let way (v,) + w, w one of u, the row (v, its place in ways[v], u, the place of w in ways[u])."""
-    places = {way: at for row in ways.values() for at, way in enumerate(row)}
+    places = places_of(ways)
     return [(way[0], at, way[1], places[way[1:]]) for way, at in places.items() if len(way) > 1]
 
 

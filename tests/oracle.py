@@ -32,13 +32,13 @@ def handed(town, way, marks, to):
 
 
 def all_ways(town):
-    """All ways of a town, let or not."""
+    """All ways of a town, let or not, shorter ones first."""
     goal, houses, ties = town[:3]
-    for many in range(len(houses)):
-        for ahead in itertools.permutations([house for house in houses if house != goal], many):
-            way = ahead + (goal,)
-            if all(tuple(sorted(pair)) in ties for pair in zip(way, way[1:])):
-                yield way
+    ways = [(goal,)]
+    while ways:
+        yield from ways
+        ways = [(house,) + way for way in ways for house in houses
+                if house not in way and tuple(sorted((house, way[0]))) in ties]
 
 
 def let_marks(town):
@@ -143,3 +143,83 @@ def unruly_town(chance, houses):
         likings.append(tuple(rows) + (((), None),))
     pairs = tuple(itertools.combinations(houses, 2))
     return (houses[0], tuple(houses), pairs, tuple(likings), ((),) * len(houses))
+
+
+def leads_on(town):
+    """For each let way the set of all let ways to which it leads on."""
+    marks = let_marks(town)
+    rows = lets(town)
+    return {way: {other for other in marks if other[1:] == way}
+            | set(rows[way[0]][rows[way[0]].index(way) + 1:]) for way in marks}
+
+
+def ranks(town):
+    """The least ranks, by raising each until it is right; None where that doesn't end."""
+    onward = leads_on(town)
+    told = {way: 0 for way in onward}
+    for _ in range(len(onward) + 1):
+        low = [(way, other) for way in onward for other in onward[way] if told[other] <= told[way]]
+        if not low:
+            return told
+        for way, other in low:
+            told[other] = max(told[other], told[way] + 1)
+    return None
+
+
+def mosts(town):
+    """The mosts of all houses of a town with ranks, as the document says them."""
+    rows = lets(town)
+    known = {}
+
+    def most(way):
+        if way not in known:
+            row = rows[way[0]][:rows[way[0]].index(way) + 1]
+            known[way] = 1 if len(way) == 1 else sum(most(one[1:]) for one in row)
+        return known[way]
+
+    return {house: most(row[-1]) if row else 0 for house, row in rows.items()}
+
+
+class PlainHouse:
+    """A house that keeps all letters ever heard and told, and looks through them anew each time."""
+
+    def __init__(self, town, name):
+        self.town, self.name = town, name
+        self.come, self.told, self.is_begun = [], [], False
+
+    def near(self):
+        return [other for other in self.town[1] if tuple(sorted((self.name, other))) in self.town[2]]
+
+    def heard(self, other):
+        rows = [letter[2:] for letter in self.come if letter[0] == other]
+        return max(rows, key=lambda row: row[0], default=(0, None, ()))
+
+    def going(self):
+        if self.name == self.town[0]:
+            return ((self.name,), ()) if self.is_begun else (None, ())
+        rows = [self.heard(other)[1:] for other in self.near()]
+        rows = [((self.name,) + way, marks) for way, marks in rows if way is not None and self.name not in way]
+        rows = [row for row in rows if worth(self.town, *row) is not None]
+        return min(rows, key=lambda row: (-worth(self.town, *row), len(row[0]), row[0]), default=(None, ()))
+
+    def letters(self):
+        way, marks = self.going()
+        found = []
+        for other in self.near():
+            before = ([letter for letter in self.told if letter[1] == other] or [(0, 0, 0, None, ())])[-1]
+            told = None if way is None else handed(self.town, way, marks, other)
+            offer = (None, ()) if told is None else (way, told)
+            if offer != before[3:]:
+                found.append((self.name, other, before[2] + 1) + offer)
+        self.told.extend(found)
+        return found
+
+    def begin(self):
+        self.is_begun = True
+        return self.letters()
+
+    def hear(self, letter):
+        if letter[2] <= self.heard(letter[0])[0]:
+            return []
+        self.come.append(letter)
+        return self.letters()

@@ -155,3 +155,15 @@ SIXTEEN_RESTS = town(
     {"a": via("b"), "b": via("a"), "c": via("d"), "d": via("c"),
      "e": via("f"), "f": via("e"), "h": via("i"), "i": via("h")},
 )
+
+
+def wheel(rim):
+    """A town of houses round the goal g, each of which likes the way by the next one more than its own."""
+    nexts = dict(zip(rim, rim[1:] + rim[:1]))
+    ties = {"".join(sorted(pair)) for pair in nexts.items()} | {"".join(sorted(one + "g")) for one in rim}
+    return town("g", sorted(rim + "g"), " ".join(sorted(ties)), {one: via(nexts[one]) for one in rim})
+
+
+def turned(ring, at):
+    """A ring turned round to begin at another of its ways."""
+    return ring[at:-1] + ring[:at] + [ring[at]]

@@ -275,7 +275,48 @@ CHECKS = (
 )
 
 
+# What Python's own values have, so that no method or value is called so, but where L26 lets it.
+PYTHONS = {name for kind in (str, int, list, tuple, dict, set, frozenset, bytes) for name in dir(kind)
+           if not name.startswith("__")}
+BYTES_METHODS = {"encode", "decode", "hex", "fromhex", "to_bytes", "from_bytes"}
+PYTHONS |= BYTES_METHODS | {"as_integer_ratio", "bit_count", "conjugate", "is_integer"}
+METHODS_LET = METHODS - BYTES_METHODS - {"sort"}
+VALUES_LET = {"count", "index", "title", "find", "get", "join", "lower", "upper", "split", "strip", "copy", "add"}
+
+
+def class_names(trees):
+    """The methods of the classes of some trees, the values that are given to objects, and those that are asked."""
+    methods, given, asked = set(), set(), set()
+    for tree in trees:
+        called = {node.func for node in ast.walk(tree) if isinstance(node, ast.Call)}
+        for node in ast.walk(tree):
+            if isinstance(node, ast.ClassDef):
+                methods.update(part.name for part in node.body if isinstance(part, ast.FunctionDef))
+            if isinstance(node, ast.Attribute) and isinstance(node.ctx, ast.Store):
+                given.add(node.attr)
+            elif isinstance(node, ast.Attribute) and node not in called:
+                asked.add(node.attr)
+    return methods - SPECIAL, given, asked
+
+
+def wrong_names(trees):
+    """What is wrong by L18 and L26 with methods and values."""
+    methods, given, asked = class_names(trees)
+    own = (methods & (PYTHONS - METHODS_LET)) | (given & (PYTHONS - VALUES_LET))
+    return sorted((methods & given) | (asked - given) | own)
+
+
 class Language(unittest.TestCase):
+    def test_methods_and_values(self):
+        self.assertEqual(wrong_names([Reader(path).tree for path in FILES]), [])
+        box = "class Box:\n    def __init__(self):\n        self.many = 1\n"
+        for more in ("class B:\n    def many(self):\n        pass\n", "def f(x):\n    return x.few\n",
+                     "def f(x):\n    x.items = 1\n", "def f(x):\n    x.sort = 1\n",
+                     "class B:\n    def encode(self):\n        pass\n",
+                     "class B:\n    def is_integer(self):\n        pass\n"):
+            self.assertNotEqual(wrong_names([ast.parse(box), ast.parse(more)]), [])
+        self.assertEqual(wrong_names([ast.parse(box), ast.parse("def f(x):\n    return x.many\n")]), [])
+
     def test_the_folder(self):
         others = [path.name for path in FOLDER.iterdir() if path not in FILES and path.name != "__pycache__"]
         self.assertEqual(others, [])
