@@ -83,3 +83,12 @@ class House:
                 self.tellings[other] = (nr + 1,) + offer
                 found.append((self.name, other, nr + 1) + offer)
         return found
+
+    def move_to(self, town):
+        """Stands in another town from here on; what it goes by stays until it chooses."""
+        self.place = town
+
+    def forget(self, other):
+        """What it heard of another house, and told it last, is None; the nrs go on as they were."""
+        self.hearings[other] = (self.heard(other)[0], None, ())
+        self.tellings[other] = (self.tellings.get(other, NOTHING)[0], None, ())

@@ -30,10 +30,14 @@ def are_ties(houses, thing):
     return isinstance(thing, tuple) and all([is_tie(houses, pair) for pair in thing]) and is_rising(thing)
 
 
-def has_rule_rows(houses, thing):
-    """Whether thing has for each house a tuple of at most as many things as a house may have rules."""
-    many = len(houses)
-    return is_row(thing, many, many) and all([is_row(rules, 0, MOST_RULES) for rules in thing])
+def are_likings(thing):
+    """Whether thing may be the likings of a house."""
+    return is_row(thing, 0, MOST_RULES) and all([is_liking(rule) for rule in thing])
+
+
+def are_hands(thing):
+    """Whether thing may be the hands of a house."""
+    return is_row(thing, 0, MOST_RULES) and all([is_hand(rule) for rule in thing])
 
 
 def is_town(thing):
@@ -43,11 +47,10 @@ def is_town(thing):
     goal, houses, ties, likings, hands = thing
     if not are_houses(houses) or not is_house(houses, goal) or not are_ties(houses, ties):
         return False
-    if not has_rule_rows(houses, likings) or not has_rule_rows(houses, hands):
+    many = len(houses)
+    if not is_row(likings, many, many) or not is_row(hands, many, many):
         return False
-    if not all([is_liking(rule) for rules in likings for rule in rules]):
-        return False
-    return all([is_hand(rule) for rules in hands for rule in rules])
+    return all([are_likings(rules) for rules in likings]) and all([are_hands(rules) for rules in hands])
 
 
 def likings_of(town, house):

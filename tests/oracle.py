@@ -192,7 +192,8 @@ class PlainHouse:
 
     def heard(self, other):
         rows = [letter[2:] for letter in self.come if letter[0] == other]
-        return max(rows, key=lambda row: row[0], default=(0, None, ()))
+        # Of the same nr the last one: forgetting leaves the nr and takes the way.
+        return max(rows[::-1], key=lambda row: row[0], default=(0, None, ()))
 
     def going(self):
         if self.name == self.town[0]:
@@ -223,3 +224,158 @@ class PlainHouse:
             return []
         self.come.append(letter)
         return self.letters()
+
+    def forget(self, other):
+        self.come.append((other, self.name, self.heard(other)[0], None, ()))
+        self.told.append((self.name, other, max([one[2] for one in self.told if one[1] == other], default=0), None, ()))
+
+
+class PlainRun:
+    """A run of plain houses, with all that ever happened looked through anew each time."""
+
+    def __init__(self, town):
+        self.place = town
+        self.houses = {name: PlainHouse(town, name) for name in town[1]}
+        self.on_road, self.ways = [], {name: [None] for name in town[1]}
+        for name in town[1]:
+            self.tell(self.houses[name].begin())
+
+    def tell(self, letters):
+        self.on_road += letters
+        for name, house in self.houses.items():
+            if house.going()[0] != self.ways[name][-1]:
+                self.ways[name].append(house.going()[0])
+
+    def changes(self):
+        return {name: len(ways) - 1 for name, ways in self.ways.items()}
+
+    def choice(self):
+        return {name: ways[-1] for name, ways in self.ways.items()}
+
+    def come(self, k):
+        letter = self.on_road.pop(k)
+        self.tell(self.houses[letter[1]].hear(letter))
+
+    def copy(self, k):
+        letter = self.on_road[k]
+        self.tell(self.houses[letter[1]].hear(letter))
+
+    def may_lose(self, k):
+        one, to, nr = self.on_road[k][:3]
+        heard = [letter[2] for letter in self.houses[to].come if letter[0] == one]
+        return any(other >= nr for other in heard) or any(
+            letter[:2] == (one, to) and letter[2] > nr for letter in self.on_road)
+
+    def is_still(self):
+        return all(nr <= self.houses[to].heard(one)[0] for one, to, nr, way, marks in self.on_road)
+
+    def change(self, deed):
+        goal, houses, ties, likings, hands = self.place
+        word, one, about = deed
+        named = [one]
+        if word in ("tie", "untie"):
+            named = sorted(deed[1:])
+            ties = tuple(sorted(set(ties) ^ {tuple(named)}))
+        if word == "like":
+            likings = tuple(about if house == one else row for house, row in zip(houses, likings))
+        if word == "hand":
+            hands = tuple(about if house == one else row for house, row in zip(houses, hands))
+        self.place = (goal, houses, ties, likings, hands)
+        if word == "untie":
+            self.on_road = [letter for letter in self.on_road if set(letter[:2]) != set(named)]
+            self.houses[named[0]].forget(named[1])
+            self.houses[named[1]].forget(named[0])
+        for house in self.houses.values():
+            house.town = self.place
+        for name in named:
+            letters = self.houses[name].letters()
+            self.on_road += letters
+            way = self.houses[name].going()[0]
+            if way != self.ways[name][-1]:
+                self.ways[name].append(way)
+
+
+def state_begun(town):
+    pairs = sorted([pair for pair in town[2]] + [(b, a) for a, b in town[2]])
+    waits = {pair: pair[0] == town[0] and handed(town, (town[0],), (), pair[1]) is not None for pair in pairs}
+    return tuple((a, b, None, ((a,),) if waits[(a, b)] else ()) for a, b in pairs)
+
+
+def state_comings(state):
+    return sorted((a, b, k) for a, b, heard, waits in state for k, offer in enumerate(waits))
+
+
+def state_choice(town, state, marks):
+    """The choice of a state; marks as let_marks tells them."""
+    found = {}
+    for house in town[1]:
+        ways = [(house,) + heard for a, b, heard, waits in state if b == house and heard is not None]
+        found[house] = (order(town, [way for way in ways if way in marks], marks) or [None])[0]
+    found[town[0]] = (town[0],)
+    return found
+
+
+def state_come(town, state, coming, width, marks):
+    """The state behind a coming; marks as let_marks tells them."""
+    one, to, k = coming
+    heard = {row[:2]: row[2] for row in state}
+    waits = {row[:2]: list(row[3]) for row in state}
+    for _ in range(k + 1):
+        heard[(one, to)] = waits[(one, to)].pop(0)
+    behind = tuple((a, b, heard[(a, b)], ()) for a, b in sorted(heard))
+    way = state_choice(town, behind, marks)[to]
+    for a, b in waits:
+        if a == to:
+            keeps = way is None or handed(town, way, marks[way], b) is None
+            offer = None if keeps else way
+            if offer != ([heard[(a, b)]] + waits[(a, b)])[-1]:
+                waits[(a, b)].append(offer)
+            if len(waits[(a, b)]) > width:
+                waits[(a, b)].pop(0)
+    return tuple((a, b, heard[(a, b)], tuple(waits[(a, b)])) for a, b in sorted(heard))
+
+
+def all_states(town, width, most):
+    """All states that can come of begun, None where they are more than most."""
+    marks = let_marks(town)
+    found = {state_begun(town)}
+    fresh = list(found)
+    while fresh and len(found) <= most:
+        state = fresh.pop()
+        for coming in state_comings(state):
+            after = state_come(town, state, coming, width, marks)
+            if after not in found:
+                found.add(after)
+                fresh.append(after)
+    return found if len(found) <= most else None
+
+
+def shows_rests(town, paper, width):
+    """Whether a dict is a paper that each fair row of comings ends."""
+    marks = let_marks(town)
+    if state_begun(town) not in paper:
+        return False
+    for state, (rank, pair) in paper.items():
+        waiting = {coming[:2] for coming in state_comings(state)}
+        if rank < 0 or (pair is None) != (not waiting) or (waiting and pair not in waiting):
+            return False
+        for coming in state_comings(state):
+            after = paper.get(state_come(town, state, coming, width, marks))
+            if after is None or not (after[0] < rank or (coming[:2] != pair and after == (rank, pair))):
+                return False
+    return True
+
+
+def shows_round(town, rows, width):
+    """Whether (ahead, again) goes round for ever and is fair."""
+    marks = let_marks(town)
+    ahead, again = rows
+    state = state_begun(town)
+    turn = None
+    for at, coming in enumerate(ahead + again):
+        turn = state if at == len(ahead) else turn
+        if coming not in state_comings(state):
+            return False
+        state = state_come(town, state, coming, width, marks)
+    waiting = {coming[:2] for coming in state_comings(state)}
+    return again != () and state == turn and waiting <= {coming[:2] for coming in again}

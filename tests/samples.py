@@ -157,6 +157,11 @@ SIXTEEN_RESTS = town(
 )
 
 
+# Names of several letters, with the same letters in several of them.
+LONG_NAMES = ("home", ("hill", "home", "hut", "mill"), (("hill", "home"), ("hill", "hut"), ("home", "hut"), ("hut", "mill")),
+              ((((("from", "hut"),), 2),), (), (), ()), ((), (), (((("to", "mill"),), ("put", "dusty")),), ()))
+
+
 def wheel(rim):
     """A town of houses round the goal g, each of which likes the way by the next one more than its own."""
     nexts = dict(zip(rim, rim[1:] + rim[:1]))

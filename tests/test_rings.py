@@ -6,7 +6,7 @@ from restways.counts import mosts
 from restways.errors import HasRing, RestError, TooMany
 from restways.rests import rests
 from restways.rings import ranks, rest, ring
-from samples import JUST_400, JUST_401, NO_REST, TWO_RESTS, all_ties, town, via, wheel
+from samples import JUST_400, JUST_401, LONG_NAMES, NO_REST, TWO_RESTS, all_ties, town, via, wheel
 
 TRIANGLE = town("g", "abg", "ab ag bg")
 # a likes what b hands it with the mark m, which b puts only where it comes straight from g.
@@ -170,6 +170,15 @@ class Rest(Base):
                 self.is_ring(place, caught.exception.ring)
                 caught.exception.ring.clear()
             self.assertIsNotNone(ring(place))
+
+
+class LongNames(unittest.TestCase):
+    def test_names_of_several_letters(self):
+        self.assertIsNone(ring(LONG_NAMES))
+        self.assertEqual(ranks(LONG_NAMES), oracle.ranks(LONG_NAMES))
+        self.assertEqual(rests(LONG_NAMES), [rest(LONG_NAMES)])
+        self.assertEqual(mosts(LONG_NAMES), oracle.mosts(LONG_NAMES))
+        self.assertEqual(sorted(mosts(LONG_NAMES)), ["hill", "home", "hut", "mill"])
 
 
 class TooManyWays(unittest.TestCase):
