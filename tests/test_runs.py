@@ -409,13 +409,20 @@ class Change(Base):
 
     def test_nrs_heard_go_on(self):
         run = self.still(TRIANGLE)
+        self.assertEqual(run.people["a"].heard("g"), (1, ("g",), ()))
         run.change(("untie", "a", "g"))
-        run.change(("tie", "a", "g"))
+        # No letter of the two is left by which a run itself could show it, so the houses are asked.
+        for _ in range(2):
+            self.assertEqual(run.people["a"].heard("g"), (1, None, ()))
+            self.assertEqual(run.people["g"].heard("a"), (1, None, ()))
+            if ("a", "g") not in run.town()[2]:
+                run.change(("tie", "a", "g"))
         k = place_of(run, "g", "a")
         self.assertEqual(run.road()[k], letter("g", "a", 2, "g"))
         self.refused(Needed, run.lose, k)
         run.copy(k)
         run.lose(k)
+        self.assertEqual(run.people["a"].heard("g"), (2, ("g",), ()))
 
     def test_what_was_heard_is_none_when_tied_again(self):
         # a's way went by g: tied again, it hears g's letter first.
