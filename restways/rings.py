@@ -1,6 +1,7 @@
 """Rings of likings, ranks, and the one rest of a town that has ranks."""
 
 from restways.errors import HasRing
+from restways.leading import least_ranks, ring_without
 from restways.lets import lets
 
 
@@ -9,39 +10,6 @@ def leaders_of(ways):
     # Whatever else is liked more leads on to the one that is liked next more, and by it to this one.
     return {way: row[max(at - 1, 0):at] + ([way[1:]] if len(way) > 1 else [])
             for row in ways.values() for at, way in enumerate(row)}
-
-
-def least_ranks(leaders):
-    """The least ranks of the ways to which no ring leads on, each behind those that lead on to it."""
-    told = {}
-    waiting = list(leaders)
-    fresh = True
-    while fresh:
-        fresh = False
-        left = []
-        for way in waiting:
-            if all([one in told for one in leaders[way]]):
-                told[way] = max([told[one] + 1 for one in leaders[way]], default=0)
-                fresh = True
-            else:
-                left.append(way)
-        waiting = left
-    return told
-
-
-def ring_without(leaders, told):
-    """A ring among the ways that have no rank in told, None where all have one."""
-    left = [way for way in leaders if way not in told]
-    if not left:
-        return None
-    row = []
-    way = left[0]
-    # Each way without a rank has such a one leading on to it, so that the walk back never ends but in a ring.
-    while way not in row:
-        row.append(way)
-        way = [one for one in leaders[way] if one not in told][0]
-    found = row[row.index(way):] + [way]
-    return found[::-1]
 
 
 def ring(town):

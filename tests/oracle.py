@@ -379,3 +379,35 @@ def shows_round(town, rows, width):
         state = state_come(town, state, coming, width, marks)
     waiting = {coming[:2] for coming in state_comings(state)}
     return again != () and state == turn and waiting <= {coming[:2] for coming in again}
+
+
+def is_right(town, sealed, marks):
+    """Whether a sealed letter by its form is right; marks as let_marks tells them."""
+    (one, to, nr, way, told), papers = sealed
+    if way is None:
+        return papers == ()
+    if way not in marks or way[0] != one or told != handed(town, way, marks[way], to):
+        return False
+    # To hand way[k + 1:] to way[k] makes the marks of way[k:].
+    asked = [(way[k + 1], way[k], way[k + 1:], marks[way[k:]]) for k in range(len(way) - 1)]
+    return [paper[:2] + paper[3:] for paper in papers] == asked
+
+
+def right_letters(town, nr=1):
+    """A right sealed letter, all nrs alike, of each let way to each tied house to which it is handed."""
+    marks = let_marks(town)
+    for way in marks:
+        for to in town[1]:
+            told = handed(town, way, marks[way], to)
+            if told is not None and tuple(sorted((way[0], to))) in town[2]:
+                papers = tuple((way[k + 1], way[k], nr, way[k + 1:], marks[way[k:]]) for k in range(len(way) - 1))
+                yield ((way[0], to, nr, way, told), papers)
+
+
+def named(town, letters):
+    """The houses named of sealed letters by their form."""
+    marks = let_marks(town)
+    false = {(first[0], "false") for first, papers in letters if not is_right(town, (first, papers), marks)}
+    papers = [paper for first, behind in letters for paper in (first,) + behind]
+    twins = {(one[0], "twin") for one, other in itertools.combinations(papers, 2) if one[:3] == other[:3] and one != other}
+    return sorted(false | twins)
