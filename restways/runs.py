@@ -1,9 +1,9 @@
 """A run: all houses of a town, and the road with the letters on their way."""
 
 from restways.deeds import houses_named, is_deed, town_behind
-from restways.errors import Needed, NoDeed, NoLetter
+from restways.errors import Needed, NoDeed
 from restways.houses import House
-from restways.plain import is_whole
+from restways.roads import at_place, is_outdone
 
 
 class Run:
@@ -32,36 +32,26 @@ class Run:
         """The town as it is."""
         return self.place
 
-    def letter_at(self, k):
-        """The letter at a place of the road; refused with NoLetter, of anything."""
-        if not is_whole(k, 0, len(self.waiting) - 1):
-            raise NoLetter()
-        return self.waiting[k]
-
     def was_heard(self, letter):
         """Whether a letter of that nr or a greater one was heard where it goes."""
         one, to, nr = letter[:3]
         return nr <= self.people[to].heard(one)[0]
 
-    def is_outdone(self, letter):
-        """Whether a letter with a greater nr from the same to the same is on the road."""
-        return any([other[:2] == letter[:2] and other[2] > letter[2] for other in self.waiting])
-
     def come(self, k):
         """The letter at place k is off the road and heard; refused with NoLetter."""
-        letter = self.letter_at(k)
+        letter = at_place(self.waiting, k)
         self.waiting.pop(k)
         self.waiting.extend(self.people[letter[1]].hear(letter))
 
     def copy(self, k):
         """The letter at place k is heard and stays; refused with NoLetter."""
-        letter = self.letter_at(k)
+        letter = at_place(self.waiting, k)
         self.waiting.extend(self.people[letter[1]].hear(letter))
 
     def lose(self, k):
         """The letter at place k is off the road; refused with NoLetter, then Needed."""
-        letter = self.letter_at(k)
-        if not self.was_heard(letter) and not self.is_outdone(letter):
+        letter = at_place(self.waiting, k)
+        if not self.was_heard(letter) and not is_outdone(letter, self.waiting):
             raise Needed()
         self.waiting.pop(k)
 

@@ -1,6 +1,7 @@
-"""What the document says of let ways and rests, tried out plainly: slow, and of small towns alone."""
+"""What the document says, tried out plainly: slow, and of small towns alone."""
 
 import itertools
+import re
 
 
 def cond_holds(cond, way, marks, to):
@@ -411,3 +412,175 @@ def named(town, letters):
     papers = [paper for first, behind in letters for paper in (first,) + behind]
     twins = {(one[0], "twin") for one, other in itertools.combinations(papers, 2) if one[:3] == other[:3] and one != other}
     return sorted(false | twins)
+
+
+class PlainSworn:
+    """A sworn run of plain houses, with all that ever happened looked through anew each time."""
+
+    def __init__(self, town, liars):
+        self.town, self.liars, self.marks = town, liars, let_marks(town)
+        self.honest = {name: PlainHouse(town, name) for name in town[1] if name not in liars}
+        self.on_road, self.all_sent, self.all_heard = [], [], []
+        for name, house in self.honest.items():
+            self.tell(house.begin())
+
+    def tell(self, letters):
+        for letter in letters:
+            one, way = letter[0], letter[3]
+            papers = ()
+            if way is not None and way != (self.town[0],):
+                behind = [sealed for sealed in self.all_heard if sealed[0][:2] == (way[1], one)]
+                first, more = max(behind, key=lambda sealed: sealed[0][2])
+                papers = (first,) + more
+            self.put((letter, papers))
+
+    def put(self, sealed):
+        self.on_road.append(sealed)
+        self.all_sent.append(sealed)
+
+    def would_hear(self, sealed):
+        one, to, nr = sealed[0][:3]
+        if to in self.liars or not is_right(self.town, sealed, self.marks):
+            return False
+        return nr > self.honest[to].heard(one)[0]
+
+    def hear(self, sealed):
+        if self.would_hear(sealed):
+            self.all_heard.append(sealed)
+            self.tell(self.honest[sealed[0][1]].hear(sealed[0]))
+
+    def come(self, k):
+        self.hear(self.on_road.pop(k))
+
+    def copy(self, k):
+        self.hear(self.on_road[k])
+
+    def may_lose(self, k):
+        one, to, nr = self.on_road[k][0][:3]
+        if one in self.liars or to in self.liars:
+            return True
+        return nr <= self.honest[to].heard(one)[0] or any(
+            first[:2] == (one, to) and first[2] > nr for first, papers in self.on_road)
+
+    def is_forged(self, sealed):
+        first, papers = sealed
+        made = [told for told, behind in self.all_sent if told[0] in self.honest]
+        return first[0] not in self.liars or any(one[0] in self.honest and one not in made for one in papers)
+
+    def choice(self):
+        return {name: house.going()[0] for name, house in self.honest.items()}
+
+    def is_still(self):
+        return not any(self.would_hear(sealed) for sealed in self.on_road)
+
+
+def some_lie(chance, town, liars, sent):
+    """A sealed letter of a liar, not forged: now and then right, now and then made up of whatever there is."""
+    made = [first for first, papers in sent if first[0] not in liars]
+    marks = let_marks(town)
+    near = {one: [other for other in town[1] if tuple(sorted((one, other))) in town[2]] for one in town[1]}
+    liar = chance.choice([one for one in liars if near[one]])
+    ways = [way for way in marks if way[0] == liar] or [(liar,)]
+    way = chance.choice(ways) if chance.random() < 0.9 else tuple(chance.sample(town[1], 2))
+    papers = []
+    for k in range(1, len(way)):
+        one, to = way[k], way[k - 1]
+        if one in liars and to in near[one]:
+            papers.append((one, to, chance.randint(1, 4), way[k:], marks.get(way[k - 1:], ())))
+        else:
+            papers.extend([paper for paper in made if paper[:2] == (one, to) and paper[3] == way[k:]][-1:])
+    to = chance.choice(near[liar])
+    told = handed(town, way, marks.get(way, ()), to) if way[0] == liar else None
+    first = (liar, to, chance.randint(1, 6), way, told or ())
+    spoil = chance.random()
+    if spoil < 0.1 and made:
+        papers.insert(0, chance.choice(made))
+    elif spoil < 0.2:
+        papers = papers[1:]
+    elif spoil < 0.3:
+        first = first[:4] + (("m", "z"),)
+    elif spoil < 0.4:
+        first, papers = first[:3] + (None, ()), []
+    return (first, tuple(papers))
+
+
+# A town's text, row by row.
+NAME = r"(?!(?:if|and|not|never)(?![a-z]))[a-z]{1,8}(?![a-z])"
+NUMBER = r"(?:0|[1-9][0-9]{0,2})"
+WORTH = r"(?:never|0|-?[1-9][0-9]{0,2})"
+COND = rf"(?:not )?(?:(?:by|from|to|mark) {NAME}|long {NUMBER})"
+CONDS = rf"(?: if ({COND}(?: and {COND})*))?"
+GOAL = rf"goal ({NAME})"
+HOUSES = rf"houses((?: {NAME})+)"
+TIE = rf"tie ({NAME}) ({NAME})"
+LIKE = rf"like ({NAME}) ({WORTH}){CONDS}"
+HAND = rf"hand ({NAME}) (keep|put {NAME}|strike {NAME}){CONDS}"
+
+
+def read_cond(text):
+    word, about = text.rsplit(" ", 1)
+    if word.startswith("not "):
+        return ("not", read_cond(text[4:]))
+    return (word, int(about) if word == "long" else about)
+
+
+def read_conds(text):
+    return tuple(read_cond(part) for part in text.split(" and ")) if text else ()
+
+
+def read_rows(text):
+    """The town of a text, checked for nothing but how it is written; or the number of the first wrong row."""
+    rows = text.split("\n")
+    goal = re.fullmatch(GOAL, rows[0])
+    if not goal:
+        return 1
+    houses = re.fullmatch(HOUSES, rows[1]) if len(rows) > 1 else None
+    if not houses:
+        return 2
+    names = tuple(houses[1].split())
+    ties, likings, hands, last = [], [[] for _ in names], [[] for _ in names], (0, 0)
+    for number, row in enumerate(rows[2:], 3):
+        tie, like, hand = [re.fullmatch(form, row) for form in (TIE, LIKE, HAND)]
+        rule = like or hand
+        if not tie and (not rule or rule[1] not in names):
+            return number
+        at = (0, 0) if tie else (1 if like else 2, names.index(rule[1]))
+        if at < last:
+            return number
+        last = at
+        if tie:
+            ties.append(tie.groups())
+        elif like:
+            likings[at[1]].append((read_conds(like[3]), None if like[2] == "never" else int(like[2])))
+        else:
+            hands[at[1]].append((read_conds(hand[3]), tuple(hand[2].split())))
+    return (goal[1], names, tuple(ties), tuple(map(tuple, likings)), tuple(map(tuple, hands)))
+
+
+def may_be_town(town):
+    """Whether what read_rows told makes a town."""
+    goal, houses, ties, likings, hands = town
+    conds = [cond for rows in likings + hands for rule in rows for cond in rule[0]]
+    in_likings = [cond for rows in likings for rule in rows for cond in rule[0]]
+    return all((
+        goal in houses, len(houses) <= 10, list(houses) == sorted(set(houses)), list(ties) == sorted(set(ties)),
+        all(a < b and a in houses and b in houses for a, b in ties),
+        all(len(rows) <= 90 for rows in likings + hands),
+        all(len(rule[0]) <= 4 for rows in likings + hands for rule in rows),
+        all(long_of(cond) <= 99 for cond in conds),
+        not any(cond[0] == "to" or cond[0] == "not" and cond[1][0] == "to" for cond in in_likings),
+    ))
+
+
+def long_of(cond):
+    """How long a cond asks for, 0 where it asks for something else."""
+    word, about = cond
+    return long_of(about) if word == "not" else about if word == "long" else 0
+
+
+def read_town(text):
+    """The town of a text, or the number that is told of it."""
+    told = read_rows(text)
+    if isinstance(told, int):
+        return told
+    return told if may_be_town(told) else text.count("\n") + 2
