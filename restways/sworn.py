@@ -96,4 +96,7 @@ class Sworn:
 
     def is_still(self):
         """Whether each sealed letter on the road would be passed over."""
-        return not any([self.would_hear(sealed) for sealed in self.waiting])
+        for sealed in self.waiting:
+            if self.would_hear(sealed):
+                return False
+        return True

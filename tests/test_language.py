@@ -306,7 +306,61 @@ def wrong_names(trees):
     return sorted((methods & given) | (asked - given) | own)
 
 
+def takes(node, skip):
+    """How many things a def takes by place at the least and at the most, its own object left out."""
+    most = len(node.args.args) - skip
+    return (most - len(node.args.defaults), most)
+
+
+def taken_by_name(trees):
+    """For each def of a file's top, each class and each method the list of what takes tells of it."""
+    found = {}
+    for tree in trees:
+        for row in tree.body:
+            if isinstance(row, ast.FunctionDef):
+                found.setdefault(row.name, []).append(takes(row, 0))
+            if isinstance(row, ast.ClassDef):
+                made = [part for part in row.body if isinstance(part, ast.FunctionDef) and part.name == "__init__"]
+                found.setdefault(row.name, []).append(takes(made[0], 1) if made else (0, 0))
+                for part in row.body:
+                    if isinstance(part, ast.FunctionDef):
+                        found.setdefault("." + part.name, []).append(takes(part, 1))
+    return found
+
+
+def wrong_calls(trees):
+    """The calls of own defs, classes and methods that hand in more or fewer things than these take."""
+    known = taken_by_name(trees)
+    wrong = []
+    for call in [node for tree in trees for node in ast.walk(tree) if isinstance(node, ast.Call)]:
+        name = call.func.id if isinstance(call.func, ast.Name) else "." + call.func.attr
+        many = len(call.args) + len(call.keywords)
+        if name in known and not any(low <= many <= high for low, high in known[name]):
+            wrong.append(ast.unparse(call))
+    return wrong
+
+
+def methods_twice(trees):
+    """The methods that stand twice in one class."""
+    rows = [[part.name for part in row.body if isinstance(part, ast.FunctionDef)]
+            for tree in trees for row in tree.body if isinstance(row, ast.ClassDef)]
+    return [name for names in rows for name in names if names.count(name) > 1]
+
+
 class Language(unittest.TestCase):
+    def test_calls(self):
+        self.assertEqual(wrong_calls([Reader(path).tree for path in FILES]), [])
+        box = "class Box:\n    def __init__(self, k):\n        self.k = k\n    def many(self, x=1):\n        return x\n"
+        for row in ("Box()", "Box(1, 2)", "f(1).many(1, 2)", "f()", "f(1, 2)"):
+            self.assertNotEqual(wrong_calls([ast.parse(box + f"def f(x):\n    return {row}\n")]), [])
+        for row in ("Box(1)", "f(1).many()", "f(1).many(2)", "len(x)"):
+            self.assertEqual(wrong_calls([ast.parse(box + f"def f(x):\n    return {row}\n")]), [])
+
+    def test_methods_once(self):
+        self.assertEqual(methods_twice([Reader(path).tree for path in FILES]), [])
+        twice = "class Box:\n    def many(self):\n        pass\n    def many(self):\n        pass\n"
+        self.assertEqual(methods_twice([ast.parse(twice)]), ["many", "many"])
+
     def test_methods_and_values(self):
         self.assertEqual(wrong_names([Reader(path).tree for path in FILES]), [])
         box = "class Box:\n    def __init__(self):\n        self.many = 1\n"

@@ -219,6 +219,14 @@ class IsRight(unittest.TestCase):
                       (first, {paper: True for paper in papers}), ((), ()), ("", ()), (first, "")):
             self.tells(False, thing)
 
+    def test_papers_of_other_lengths(self):
+        row = (FROM_A,) + SEALED[1]
+        for at, paper in enumerate(row):
+            for other in (paper[:4], paper[1:], paper[:3], paper[:2], paper[:1], (), paper + ((),), paper + paper[:1]):
+                told = row[:at] + (other,) + row[at + 1:]
+                self.tells(False, (told[0], told[1:]))
+        self.tells(False, (letter("a", "b", 1, None)[:4], ()))
+
     def test_spoilt_ones(self):
         for place in places(SEALED):
             part = part_at(SEALED, place)
